@@ -1,0 +1,89 @@
+package rules
+
+import (
+	"go/ast"
+	"go/importer"
+	"go/parser"
+	"go/token"
+	"go/types"
+	"path/filepath"
+	"strings"
+	"testing"
+)
+
+// ways are those of the language that each built layer leans on, by the document's section 'Ways'.
+var ways = map[string]string{
+	"word": "range-integer range-function array-compared",
+	"num":  "range-function closure",
+}
+
+func TestLayersLeanOnTheirWays(t *testing.T) {
+	fset := token.NewFileSet()
+	source := importer.ForCompiler(fset, "source", nil)
+	for layer, wanted := range ways {
+		got := waysOf(t, fset, source, layer)
+		for _, way := range strings.Fields(wanted) {
+			if !got[way] {
+				t.Errorf("%s has no %s", layer, way)
+			}
+		}
+	}
+}
+
+// waysOf tells which ways stand in a layer's own files, those of its tests aside.
+func waysOf(t *testing.T, fset *token.FileSet, source types.Importer, layer string) map[string]bool {
+	t.Helper()
+	paths, err := filepath.Glob(filepath.Join("..", layer, "*.go"))
+	if err != nil {
+		t.Fatal(err)
+	}
+	var files []*ast.File
+	for _, path := range paths {
+		if strings.HasSuffix(path, "_test.go") {
+			continue
+		}
+		f, err := parser.ParseFile(fset, path, nil, 0)
+		if err != nil {
+			t.Fatal(err)
+		}
+		files = append(files, f)
+	}
+	info := &types.Info{Types: map[ast.Expr]types.TypeAndValue{}}
+	config := types.Config{Importer: source}
+	if _, err := config.Check("rescript/"+layer, fset, files, info); err != nil {
+		t.Fatal(err)
+	}
+	got := map[string]bool{}
+	for _, f := range files {
+		ast.Inspect(f, func(n ast.Node) bool {
+			got[wayOf(n, info)] = true
+			return true
+		})
+	}
+	return got
+}
+
+// wayOf names the way that a part of a file is; most are none.
+func wayOf(n ast.Node, info *types.Info) string {
+	switch x := n.(type) {
+	case *ast.AssignStmt:
+		// A literal that is answered at once is the function of a range: no closure that tells.
+		if _, ok := x.Rhs[0].(*ast.FuncLit); ok {
+			return "closure"
+		}
+	case *ast.RangeStmt:
+		switch r := info.TypeOf(x.X).Underlying().(type) {
+		case *types.Signature:
+			return "range-function"
+		case *types.Basic:
+			if r.Info()&types.IsInteger != 0 {
+				return "range-integer"
+			}
+		}
+	case *ast.BinaryExpr:
+		if _, ok := info.TypeOf(x.X).Underlying().(*types.Array); ok && (x.Op == token.EQL || x.Op == token.NEQ) {
+			return "array-compared"
+		}
+	}
+	return ""
+}
