@@ -13,8 +13,9 @@ import (
 
 // ways are those of the language that each built layer leans on, by the document's section 'Ways'.
 var ways = map[string]string{
-	"word": "range-integer range-function array-compared",
-	"num":  "range-function closure",
+	"word":   "range-integer range-function array-compared",
+	"num":    "range-function closure",
+	"keccak": "constant-table range-function chunks",
 }
 
 func TestLayersLeanOnTheirWays(t *testing.T) {
@@ -71,7 +72,15 @@ func wayOf(n ast.Node, info *types.Info) string {
 		if _, ok := x.Rhs[0].(*ast.FuncLit); ok {
 			return "closure"
 		}
+	case *ast.ValueSpec:
+		if isArrayLiteral(x, info) {
+			return "constant-table"
+		}
 	case *ast.RangeStmt:
+		// Blocks that the library cuts are no range over a function of the layer's own.
+		if call, ok := x.X.(*ast.CallExpr); ok && types.ExprString(call.Fun) == "slices.Chunk" {
+			return "chunks"
+		}
 		switch r := info.TypeOf(x.X).Underlying().(type) {
 		case *types.Signature:
 			return "range-function"
@@ -86,4 +95,17 @@ func wayOf(n ast.Node, info *types.Info) string {
 		}
 	}
 	return ""
+}
+
+// isArrayLiteral tells whether a variable's value is an array that is written out.
+func isArrayLiteral(v *ast.ValueSpec, info *types.Info) bool {
+	if len(v.Values) != 1 {
+		return false
+	}
+	literal, ok := v.Values[0].(*ast.CompositeLit)
+	if !ok {
+		return false
+	}
+	_, ok = info.TypeOf(literal).Underlying().(*types.Array)
+	return ok
 }
