@@ -16,6 +16,7 @@ var ways = map[string]string{
 	"word":   "range-integer range-function array-compared",
 	"num":    "range-function closure",
 	"keccak": "constant-table range-function chunks",
+	"rlp":    "recursive-closure variadic panic recovered",
 }
 
 func TestLayersLeanOnTheirWays(t *testing.T) {
@@ -69,8 +70,21 @@ func wayOf(n ast.Node, info *types.Info) string {
 	switch x := n.(type) {
 	case *ast.AssignStmt:
 		// A literal that is answered at once is the function of a range: no closure that tells.
-		if _, ok := x.Rhs[0].(*ast.FuncLit); ok {
+		if literal, ok := x.Rhs[0].(*ast.FuncLit); ok {
+			if names(literal.Body, types.ExprString(x.Lhs[0])) {
+				return "recursive-closure"
+			}
 			return "closure"
+		}
+	case *ast.Ellipsis:
+		return "variadic"
+	case *ast.CallExpr:
+		if types.ExprString(x.Fun) == "panic" {
+			return "panic"
+		}
+	case *ast.DeferStmt:
+		if literal, ok := x.Call.Fun.(*ast.FuncLit); ok && names(literal.Body, "recover") {
+			return "recovered"
 		}
 	case *ast.ValueSpec:
 		if isArrayLiteral(x, info) {
@@ -95,6 +109,17 @@ func wayOf(n ast.Node, info *types.Info) string {
 		}
 	}
 	return ""
+}
+
+// names tells whether a name stands anywhere in a part of a file.
+func names(n ast.Node, name string) bool {
+	found := false
+	ast.Inspect(n, func(n ast.Node) bool {
+		id, ok := n.(*ast.Ident)
+		found = found || ok && id.Name == name
+		return true
+	})
+	return found
 }
 
 // isArrayLiteral tells whether a variable's value is an array that is written out.
