@@ -7,6 +7,7 @@ import (
 	"go/token"
 	"go/types"
 	"path/filepath"
+	"slices"
 	"strings"
 	"testing"
 )
@@ -17,6 +18,7 @@ var ways = map[string]string{
 	"num":    "range-function closure",
 	"keccak": "constant-table range-function chunks",
 	"rlp":    "recursive-closure variadic panic recovered",
+	"unrlp":  "range-function of-two method-value",
 }
 
 func TestLayersLeanOnTheirWays(t *testing.T) {
@@ -50,7 +52,7 @@ func waysOf(t *testing.T, fset *token.FileSet, source types.Importer, layer stri
 		}
 		files = append(files, f)
 	}
-	info := &types.Info{Types: map[ast.Expr]types.TypeAndValue{}}
+	info := &types.Info{Types: map[ast.Expr]types.TypeAndValue{}, Selections: map[*ast.SelectorExpr]*types.Selection{}}
 	config := types.Config{Importer: source}
 	if _, err := config.Check("rescript/"+layer, fset, files, info); err != nil {
 		t.Fatal(err)
@@ -58,14 +60,16 @@ func waysOf(t *testing.T, fset *token.FileSet, source types.Importer, layer stri
 	got := map[string]bool{}
 	for _, f := range files {
 		ast.Inspect(f, func(n ast.Node) bool {
-			got[wayOf(n, info)] = true
+			for _, way := range strings.Fields(wayOf(n, info)) {
+				got[way] = true
+			}
 			return true
 		})
 	}
 	return got
 }
 
-// wayOf names the way that a part of a file is; most are none.
+// wayOf names the way, or ways, that a part of a file is; most are none.
 func wayOf(n ast.Node, info *types.Info) string {
 	switch x := n.(type) {
 	case *ast.AssignStmt:
@@ -82,6 +86,9 @@ func wayOf(n ast.Node, info *types.Info) string {
 		if types.ExprString(x.Fun) == "panic" {
 			return "panic"
 		}
+		if slices.ContainsFunc(x.Args, func(arg ast.Expr) bool { return isMethodValue(arg, info) }) {
+			return "method-value"
+		}
 	case *ast.DeferStmt:
 		if literal, ok := x.Call.Fun.(*ast.FuncLit); ok && names(literal.Body, "recover") {
 			return "recovered"
@@ -97,6 +104,9 @@ func wayOf(n ast.Node, info *types.Info) string {
 		}
 		switch r := info.TypeOf(x.X).Underlying().(type) {
 		case *types.Signature:
+			if x.Value != nil {
+				return "range-function of-two"
+			}
 			return "range-function"
 		case *types.Basic:
 			if r.Info()&types.IsInteger != 0 {
@@ -120,6 +130,12 @@ func names(n ast.Node, name string) bool {
 		return true
 	})
 	return found
+}
+
+// isMethodValue tells whether what is handed on is a method of a value.
+func isMethodValue(arg ast.Expr, info *types.Info) bool {
+	x, ok := arg.(*ast.SelectorExpr)
+	return ok && info.Selections[x] != nil && info.Selections[x].Kind() == types.MethodVal
 }
 
 // isArrayLiteral tells whether a variable's value is an array that is written out.
