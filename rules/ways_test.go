@@ -19,6 +19,7 @@ var ways = map[string]string{
 	"keccak": "constant-table range-function chunks",
 	"rlp":    "recursive-closure variadic panic recovered",
 	"unrlp":  "range-function of-two method-value",
+	"field":  "generic-function handed-function variadic",
 }
 
 func TestLayersLeanOnTheirWays(t *testing.T) {
@@ -80,8 +81,15 @@ func wayOf(n ast.Node, info *types.Info) string {
 			}
 			return "closure"
 		}
+	case *ast.FuncDecl:
+		if x.Type.TypeParams != nil {
+			return "generic-function" + handed(x, info)
+		}
 	case *ast.Ellipsis:
-		return "variadic"
+		// One without a type is an array's: its length is counted.
+		if x.Elt != nil {
+			return "variadic"
+		}
 	case *ast.CallExpr:
 		if types.ExprString(x.Fun) == "panic" {
 			return "panic"
@@ -130,6 +138,16 @@ func names(n ast.Node, name string) bool {
 		return true
 	})
 	return found
+}
+
+// handed names the way of a function that is handed another one.
+func handed(f *ast.FuncDecl, info *types.Info) string {
+	for _, arg := range f.Type.Params.List {
+		if _, ok := info.TypeOf(arg.Type).Underlying().(*types.Signature); ok {
+			return " handed-function"
+		}
+	}
+	return ""
 }
 
 // isMethodValue tells whether what is handed on is a method of a value.
