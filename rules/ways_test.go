@@ -20,6 +20,7 @@ var ways = map[string]string{
 	"rlp":    "recursive-closure variadic panic recovered",
 	"unrlp":  "range-function of-two method-value",
 	"field":  "generic-function handed-function variadic",
+	"shape":  "function-field structs-in-map range-function generic-function",
 }
 
 func TestLayersLeanOnTheirWays(t *testing.T) {
@@ -94,8 +95,15 @@ func wayOf(n ast.Node, info *types.Info) string {
 		if types.ExprString(x.Fun) == "panic" {
 			return "panic"
 		}
+		if isFunctionField(x.Fun, info) {
+			return "function-field"
+		}
 		if slices.ContainsFunc(x.Args, func(arg ast.Expr) bool { return isMethodValue(arg, info) }) {
 			return "method-value"
+		}
+	case *ast.CompositeLit:
+		if m, ok := info.TypeOf(x).Underlying().(*types.Map); ok && isStruct(m.Elem()) {
+			return "structs-in-map"
 		}
 	case *ast.DeferStmt:
 		if literal, ok := x.Call.Fun.(*ast.FuncLit); ok && names(literal.Body, "recover") {
@@ -154,6 +162,17 @@ func handed(f *ast.FuncDecl, info *types.Info) string {
 func isMethodValue(arg ast.Expr, info *types.Info) bool {
 	x, ok := arg.(*ast.SelectorExpr)
 	return ok && info.Selections[x] != nil && info.Selections[x].Kind() == types.MethodVal
+}
+
+// isFunctionField tells whether what is called is a field of a struct.
+func isFunctionField(called ast.Expr, info *types.Info) bool {
+	x, ok := called.(*ast.SelectorExpr)
+	return ok && info.Selections[x] != nil && info.Selections[x].Kind() == types.FieldVal
+}
+
+func isStruct(t types.Type) bool {
+	_, ok := t.Underlying().(*types.Struct)
+	return ok
 }
 
 // isArrayLiteral tells whether a variable's value is an array that is written out.
