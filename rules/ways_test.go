@@ -21,6 +21,7 @@ var ways = map[string]string{
 	"unrlp":  "range-function of-two method-value",
 	"field":  "generic-function handed-function variadic",
 	"shape":  "function-field structs-in-map range-function generic-function",
+	"ssz":    "range-function panic recovered closure",
 }
 
 func TestLayersLeanOnTheirWays(t *testing.T) {
