@@ -22,6 +22,7 @@ var ways = map[string]string{
 	"field":  "generic-function handed-function variadic",
 	"shape":  "function-field structs-in-map range-function generic-function",
 	"ssz":    "range-function panic recovered closure",
+	"merkle": "chunks range-function of-two closures-in-map",
 }
 
 func TestLayersLeanOnTheirWays(t *testing.T) {
@@ -103,8 +104,12 @@ func wayOf(n ast.Node, info *types.Info) string {
 			return "method-value"
 		}
 	case *ast.CompositeLit:
-		if m, ok := info.TypeOf(x).Underlying().(*types.Map); ok && isStruct(m.Elem()) {
+		m, ok := info.TypeOf(x).Underlying().(*types.Map)
+		switch {
+		case ok && isStruct(m.Elem()):
 			return "structs-in-map"
+		case ok && slices.ContainsFunc(x.Elts, isClosureAtKey):
+			return "closures-in-map"
 		}
 	case *ast.DeferStmt:
 		if literal, ok := x.Call.Fun.(*ast.FuncLit); ok && names(literal.Body, "recover") {
@@ -173,6 +178,16 @@ func isFunctionField(called ast.Expr, info *types.Info) bool {
 
 func isStruct(t types.Type) bool {
 	_, ok := t.Underlying().(*types.Struct)
+	return ok
+}
+
+// isClosureAtKey tells whether what stands in a map is a function that is written out there.
+func isClosureAtKey(e ast.Expr) bool {
+	at, ok := e.(*ast.KeyValueExpr)
+	if !ok {
+		return false
+	}
+	_, ok = at.Value.(*ast.FuncLit)
 	return ok
 }
 
