@@ -23,6 +23,7 @@ var ways = map[string]string{
 	"shape":  "function-field structs-in-map range-function generic-function",
 	"ssz":    "range-function panic recovered closure",
 	"merkle": "chunks range-function of-two closures-in-map",
+	"tx":     "range-function generic-function handed-function panic recovered map",
 }
 
 func TestLayersLeanOnTheirWays(t *testing.T) {
@@ -107,9 +108,11 @@ func wayOf(n ast.Node, info *types.Info) string {
 		m, ok := info.TypeOf(x).Underlying().(*types.Map)
 		switch {
 		case ok && isStruct(m.Elem()):
-			return "structs-in-map"
+			return "map structs-in-map"
 		case ok && slices.ContainsFunc(x.Elts, isClosureAtKey):
-			return "closures-in-map"
+			return "map closures-in-map"
+		case ok:
+			return "map"
 		}
 	case *ast.DeferStmt:
 		if literal, ok := x.Call.Fun.(*ast.FuncLit); ok && names(literal.Body, "recover") {
