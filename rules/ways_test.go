@@ -14,16 +14,17 @@ import (
 
 // ways are those of the language that each built layer leans on, by the document's section 'Ways'.
 var ways = map[string]string{
-	"word":   "range-integer range-function array-compared",
-	"num":    "range-function closure",
-	"keccak": "constant-table range-function chunks",
-	"rlp":    "recursive-closure variadic panic recovered",
-	"unrlp":  "range-function of-two method-value",
-	"field":  "generic-function handed-function variadic",
-	"shape":  "function-field structs-in-map range-function generic-function",
-	"ssz":    "range-function panic recovered closure",
-	"merkle": "chunks range-function of-two closures-in-map",
-	"tx":     "range-function generic-function handed-function panic recovered map",
+	"word":    "range-integer range-function array-compared",
+	"num":     "range-function closure",
+	"keccak":  "constant-table range-function chunks",
+	"rlp":     "recursive-closure variadic panic recovered",
+	"unrlp":   "range-function of-two method-value",
+	"field":   "generic-function handed-function variadic",
+	"shape":   "function-field structs-in-map range-function generic-function",
+	"ssz":     "range-function panic recovered closure",
+	"merkle":  "chunks range-function of-two closures-in-map",
+	"tx":      "range-function generic-function handed-function panic recovered map",
+	"receipt": "method-value wraps errors-as generic-function",
 }
 
 func TestLayersLeanOnTheirWays(t *testing.T) {
@@ -89,6 +90,9 @@ func wayOf(n ast.Node, info *types.Info) string {
 		if x.Type.TypeParams != nil {
 			return "generic-function" + handed(x, info)
 		}
+		if x.Recv != nil && x.Name.Name == "Unwrap" {
+			return "wraps"
+		}
 	case *ast.Ellipsis:
 		// One without a type is an array's: its length is counted.
 		if x.Elt != nil {
@@ -97,6 +101,9 @@ func wayOf(n ast.Node, info *types.Info) string {
 	case *ast.CallExpr:
 		if types.ExprString(x.Fun) == "panic" {
 			return "panic"
+		}
+		if types.ExprString(x.Fun) == "errors.As" {
+			return "errors-as"
 		}
 		if isFunctionField(x.Fun, info) {
 			return "function-field"
