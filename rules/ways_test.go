@@ -25,6 +25,7 @@ var ways = map[string]string{
 	"merkle":  "chunks range-function of-two closures-in-map",
 	"tx":      "range-function generic-function handed-function panic recovered map",
 	"receipt": "method-value wraps errors-as generic-function",
+	"fork":    "searched range-function of-two",
 }
 
 func TestLayersLeanOnTheirWays(t *testing.T) {
@@ -99,18 +100,7 @@ func wayOf(n ast.Node, info *types.Info) string {
 			return "variadic"
 		}
 	case *ast.CallExpr:
-		if types.ExprString(x.Fun) == "panic" {
-			return "panic"
-		}
-		if types.ExprString(x.Fun) == "errors.As" {
-			return "errors-as"
-		}
-		if isFunctionField(x.Fun, info) {
-			return "function-field"
-		}
-		if slices.ContainsFunc(x.Args, func(arg ast.Expr) bool { return isMethodValue(arg, info) }) {
-			return "method-value"
-		}
+		return wayOfCall(x, info)
 	case *ast.CompositeLit:
 		m, ok := info.TypeOf(x).Underlying().(*types.Map)
 		switch {
@@ -149,6 +139,27 @@ func wayOf(n ast.Node, info *types.Info) string {
 		if _, ok := info.TypeOf(x.X).Underlying().(*types.Array); ok && (x.Op == token.EQL || x.Op == token.NEQ) {
 			return "array-compared"
 		}
+	}
+	return ""
+}
+
+// wayOfCall names the way that a call is.
+func wayOfCall(call *ast.CallExpr, info *types.Info) string {
+	switch types.ExprString(call.Fun) {
+	case "panic":
+		return "panic"
+	case "errors.As":
+		return "errors-as"
+	case "sort.Search":
+		if slices.ContainsFunc(call.Args, isClosure) {
+			return "searched"
+		}
+	}
+	if isFunctionField(call.Fun, info) {
+		return "function-field"
+	}
+	if slices.ContainsFunc(call.Args, func(arg ast.Expr) bool { return isMethodValue(arg, info) }) {
+		return "method-value"
 	}
 	return ""
 }
@@ -194,10 +205,12 @@ func isStruct(t types.Type) bool {
 // isClosureAtKey tells whether what stands in a map is a function that is written out there.
 func isClosureAtKey(e ast.Expr) bool {
 	at, ok := e.(*ast.KeyValueExpr)
-	if !ok {
-		return false
-	}
-	_, ok = at.Value.(*ast.FuncLit)
+	return ok && isClosure(at.Value)
+}
+
+// isClosure tells whether it is a function that is written out on the spot.
+func isClosure(e ast.Expr) bool {
+	_, ok := e.(*ast.FuncLit)
 	return ok
 }
 
