@@ -26,6 +26,7 @@ var ways = map[string]string{
 	"tx":      "range-function generic-function handed-function panic recovered map",
 	"receipt": "method-value wraps errors-as generic-function",
 	"fork":    "searched range-function of-two",
+	"legal":   "struct-keys range-function sorted",
 }
 
 func TestLayersLeanOnTheirWays(t *testing.T) {
@@ -102,14 +103,8 @@ func wayOf(n ast.Node, info *types.Info) string {
 	case *ast.CallExpr:
 		return wayOfCall(x, info)
 	case *ast.CompositeLit:
-		m, ok := info.TypeOf(x).Underlying().(*types.Map)
-		switch {
-		case ok && isStruct(m.Elem()):
-			return "map structs-in-map"
-		case ok && slices.ContainsFunc(x.Elts, isClosureAtKey):
-			return "map closures-in-map"
-		case ok:
-			return "map"
+		if m, ok := info.TypeOf(x).Underlying().(*types.Map); ok {
+			return waysOfMap(x, m)
 		}
 	case *ast.DeferStmt:
 		if literal, ok := x.Call.Fun.(*ast.FuncLit); ok && names(literal.Body, "recover") {
@@ -143,6 +138,21 @@ func wayOf(n ast.Node, info *types.Info) string {
 	return ""
 }
 
+// waysOfMap names the ways that a map is that is written out.
+func waysOfMap(literal *ast.CompositeLit, m *types.Map) string {
+	ways := "map"
+	if isStruct(m.Key()) {
+		ways += " struct-keys"
+	}
+	switch {
+	case isStruct(m.Elem()):
+		ways += " structs-in-map"
+	case slices.ContainsFunc(literal.Elts, isClosureAtKey):
+		ways += " closures-in-map"
+	}
+	return ways
+}
+
 // wayOfCall names the way that a call is.
 func wayOfCall(call *ast.CallExpr, info *types.Info) string {
 	switch types.ExprString(call.Fun) {
@@ -150,6 +160,8 @@ func wayOfCall(call *ast.CallExpr, info *types.Info) string {
 		return "panic"
 	case "errors.As":
 		return "errors-as"
+	case "slices.Sort", "slices.SortFunc", "slices.Sorted":
+		return "sorted"
 	case "sort.Search":
 		if slices.ContainsFunc(call.Args, isClosure) {
 			return "searched"
