@@ -27,6 +27,7 @@ var ways = map[string]string{
 	"receipt": "method-value wraps errors-as generic-function",
 	"fork":    "searched range-function of-two",
 	"legal":   "struct-keys range-function sorted",
+	"frame":   "range-function of-two variadic",
 }
 
 func TestLayersLeanOnTheirWays(t *testing.T) {
