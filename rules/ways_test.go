@@ -28,6 +28,7 @@ var ways = map[string]string{
 	"fork":    "searched range-function of-two",
 	"legal":   "struct-keys range-function sorted",
 	"frame":   "range-function of-two variadic",
+	"channel": "searched inserted method-expression",
 }
 
 func TestLayersLeanOnTheirWays(t *testing.T) {
@@ -131,6 +132,10 @@ func wayOf(n ast.Node, info *types.Info) string {
 				return "range-integer"
 			}
 		}
+	case *ast.SelectorExpr:
+		if s := info.Selections[x]; s != nil && s.Kind() == types.MethodExpr {
+			return "method-expression"
+		}
 	case *ast.BinaryExpr:
 		if _, ok := info.TypeOf(x.X).Underlying().(*types.Array); ok && (x.Op == token.EQL || x.Op == token.NEQ) {
 			return "array-compared"
@@ -163,7 +168,9 @@ func wayOfCall(call *ast.CallExpr, info *types.Info) string {
 		return "errors-as"
 	case "slices.Sort", "slices.SortFunc", "slices.Sorted":
 		return "sorted"
-	case "sort.Search":
+	case "slices.Insert":
+		return "inserted"
+	case "sort.Search", "sort.Find":
 		if slices.ContainsFunc(call.Args, isClosure) {
 			return "searched"
 		}
